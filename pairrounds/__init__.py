@@ -1,0 +1,1 @@
+"""Movements: who meets whom with which boards."""
