@@ -14,7 +14,7 @@ def told_by(seating, kind):
     if kind == SET_PLAYED_AGAIN:
         return [(pair, seating.board_set) for pair in pairs]
     if kind == PAIRS_MEET_AGAIN:
-        return [(min(pairs), max(pairs))]
+        return [seating.two()]
     return [(seating.round_number, seating.board_set)]
 
 

@@ -5,8 +5,9 @@ from pairrounds.handlers import answer_call
 from pairrounds.seating import Movement
 
 
-def answers_on(movement, calls):
-    """The answers of calls on a movement that is there already, which they may change."""
+def answers(calls):
+    """For each call how many numbers are answered, then these."""
+    movement = Movement()
     given = []
     start = 0
     while start < len(calls):
@@ -16,8 +17,3 @@ def answers_on(movement, calls):
         given.extend(answer)
         start = start + call.length()
     return given
-
-
-def answers(calls):
-    """For each call how many numbers are answered, then these."""
-    return answers_on(Movement(), calls)

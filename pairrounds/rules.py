@@ -31,18 +31,6 @@ def mitchell_seatings(n, kind):
     return [mitchell_seating(n, kind, i, j) for i, j in steps(rounds, n)]
 
 
-def triples_of(row):
-    """A first round's row, cut into (a, b, s) for each table."""
-    return [(row[k], row[k + 1], row[k + 2]) for k in range(0, len(row), 3)]
-
-
-def is_first_round(m, triples):
-    for a, b, s in triples:
-        if a > m or b > m or a == b or s >= m:
-            return False
-    return True
-
-
 def cycle_pair(m, number, i):
     # The number m stands for the one pair that doesn't go on with the rounds.
     if number == m:

@@ -3,9 +3,8 @@
 import unittest
 
 from pairrounds.faults import faults_of
-from pairrounds.movement import answers_on
-from pairrounds.seating import Movement
-from tests.helpers import CHECK, CLEAR, cyclic, joined, last, left_behind, lift, put, renumber, run, switch
+from pairrounds.seating import Seating
+from tests.helpers import CHECK, CLEAR, cyclic, last, left_behind, lift, put, renumber, run, switch
 
 
 class Check(unittest.TestCase):
@@ -83,12 +82,10 @@ class Check(unittest.TestCase):
 
 class Faults(unittest.TestCase):
     def test_in_order_by_their_numbers(self):
-        movement = Movement()
-        answers_on(movement, joined([
-            put(1, 1, 12, 11, 9), put(1, 2, 11, 12, 9), put(2, 1, 3, 2, 10), put(2, 2, 2, 3, 10),
-            put(2, 3, 3, 1, 4), put(2, 4, 1, 3, 4),
-        ]))
-        seatings = movement.seatings()
+        seatings = [
+            Seating(1, 1, 12, 11, 9), Seating(1, 2, 11, 12, 9), Seating(2, 1, 3, 2, 10), Seating(2, 2, 2, 3, 10),
+            Seating(2, 3, 3, 1, 4), Seating(2, 4, 1, 3, 4),
+        ]
         self.assertEqual(faults_of(seatings, 1), [(1, 11), (1, 12), (2, 1), (2, 2), (2, 3)])
         self.assertEqual(faults_of(seatings, 2), [(1, 4), (2, 10), (3, 4), (3, 10), (11, 9), (12, 9)])
         self.assertEqual(faults_of(seatings, 3), [(1, 3), (2, 3), (11, 12)])

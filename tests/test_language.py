@@ -120,6 +120,18 @@ class Language(unittest.TestCase):
             if isinstance(node, ast.Attribute):
                 self.assertIn(node.attr, own + values + OWN_METHODS, (name, node.lineno))
 
+    def test_sets_are_not_kept(self):
+        for name, tree in self.trees.items():
+            above = {child: node for node in ast.walk(tree) for child in ast.iter_child_nodes(node)}
+            for node in ast.walk(tree):
+                if isinstance(node, ast.Call) and isinstance(node.func, ast.Name) and node.func.id in ("set", "frozenset"):
+                    around = above[node]
+                    while isinstance(around, ast.BinOp):
+                        around = above[around]
+                    if not isinstance(around, ast.Compare):
+                        self.assertIsInstance(around, ast.Call, (name, node.lineno))
+                        self.assertIn(ast.unparse(around.func), ("len", "sorted"), (name, node.lineno))
+
     def test_tops_hold_plain_values(self):
         for name, tree in self.trees.items():
             functions = [node.name for node in tree.body if isinstance(node, ast.FunctionDef)]
